@@ -1,0 +1,1 @@
+"""Pactboards: hands that must settle alike, and the boards they share."""
