@@ -1,0 +1,191 @@
+"""Houses for the tests, and what the document says of them, reckoned the slow way."""
+
+import itertools
+import random
+
+ONE = (((0, 0),),)
+# A look, and a laying of 0 and of 1.
+PLAIN = (((0, 0), (0, 0), (1, 0)), ((1, 1), (0, 0), (1, 0)))
+# Deed v puts v + 1 where nothing stands yet, and is answered what stands there then.
+FIRST = (((1, 1), (2, 2)), ((1, 1), (1, 1)), ((2, 2), (2, 2)))
+# One deed: answered 0 for the first time, 1 from then on.
+ONCE = (((1, 0),), ((1, 1),))
+# Deed v lays v and is answered what was there: meek, not plain.
+SWAP = (((0, 0), (1, 0)), ((0, 1), (1, 1)))
+# One deed, one more each time, answered what was there.
+COUNT = (((1, 0),), ((2, 1),), ((3, 2),), ((0, 3),))
+
+PUTS = ((0, 1), (("do", 0, 0, (2, 2, 3)), ("do", 0, 1, (2, 2, 3)), ("settle", 0), ("settle", 1)))
+GOOD_OF_TWO = (((FIRST, 0),), (PUTS, PUTS))
+GOOD_OF_THREE = (((FIRST, 0),), (PUTS, PUTS, PUTS))
+
+
+def teller(own, other):
+    """A hand that lays what it began with, and is told by board 0 whether it was the first."""
+    return ((0, 1), (
+        ("do", own, 1, (2,)), ("do", own, 2, (3,)),
+        ("do", 0, 0, (5, 4)), ("do", 0, 0, (6, 4)),
+        ("do", other, 0, (5, 6)), ("settle", 0), ("settle", 1)))
+
+
+GOOD_BY_ONCE = (((ONCE, 0), (PLAIN, 0), (PLAIN, 1)), (teller(1, 2), teller(2, 1)))
+EACH_ITS_OWN = ((), (((0, 1), (("settle", 0), ("settle", 1))),) * 2)
+ALWAYS_NOUGHT = ((), (((0, 0), (("settle", 0),)),) * 2)
+# Each waits until the board is no longer in state 0, which nobody changes.
+WAITING = (((PLAIN, 0),), (((0, 0), (("do", 0, 0, (0, 1)), ("settle", 0))),) * 2)
+
+
+def one_of(source, many):
+    return source.randrange(many)
+
+
+def any_table(source, states=4, deeds=3, told=3):
+    many = 1 + one_of(source, states)
+    width = 1 + one_of(source, deeds)
+    return tuple(tuple((one_of(source, many), one_of(source, told)) for d in range(width)) for s in range(many))
+
+
+def deed_answers(table, deed):
+    return max(row[deed][1] for row in table) + 1
+
+
+def any_line(source, tables, lines):
+    if not tables or one_of(source, 5) == 0:
+        return ("settle", one_of(source, 2))
+    b = one_of(source, len(tables))
+    d = one_of(source, len(tables[b][0]))
+    return ("do", b, d, tuple(one_of(source, lines) for told in range(deed_answers(tables[b], d))))
+
+
+def any_hand(source, tables, most_lines):
+    many = 2 + one_of(source, most_lines)
+    begins = (one_of(source, many), one_of(source, many))
+    return (begins, tuple(any_line(source, tables, many) for n in range(many)))
+
+
+def any_house(source, tables=None, hands=None, most_lines=5):
+    if tables is None:
+        tables = [any_table(source) for k in range(one_of(source, 4))]
+    boards = tuple((table, one_of(source, len(table))) for table in tables)
+    many = hands or 2 + one_of(source, 2)
+    return (boards, tuple(any_hand(source, tables, most_lines) for k in range(many)))
+
+
+def onward_hand(source, tables, most_lines):
+    """A hand each of whose goals is a later line: it comes to no round."""
+    many = 2 + one_of(source, most_lines)
+    lines = []
+    for n in range(many):
+        kind, *rest = ("settle", one_of(source, 2)) if n == many - 1 else any_line(source, tables, many)
+        if kind == "do":
+            rest[2] = tuple(n + 1 + one_of(source, many - n - 1) for goal in rest[2])
+        lines.append((kind, *rest))
+    return ((one_of(source, many), one_of(source, many)), tuple(lines))
+
+
+def onward_house(source, hands=None, most_lines=5):
+    tables = [any_table(source) for k in range(one_of(source, 4))]
+    boards = tuple((table, one_of(source, len(table))) for table in tables)
+    many = hands or 2 + one_of(source, 2)
+    return (boards, tuple(onward_hand(source, tables, most_lines) for k in range(many)))
+
+
+def house_of_words(source):
+    """A house with a paper of any word: now and then its goals lead onward, now and then it settles on one value."""
+    house = (onward_house if one_of(source, 2) else any_house)(source)
+    kind = one_of(source, 4)
+    if kind < 2:
+        return house
+    return (house[0], tuple((begins, tuple(("settle", kind - 2) if line[0] == "settle" else line for line in lines))
+                            for begins, lines in house[1]))
+
+
+def some_houses(many, seed, make=any_house):
+    source = random.Random(seed)
+    return [make(source) for k in range(many)]
+
+
+def every_stand(house):
+    """Any stand of a house, whether or not turns lead there."""
+    lines = [range(len(hand[1])) for hand in house[1]]
+    states = [range(len(table)) for table, state in house[0]]
+    for numbers in itertools.product(*lines):
+        for found in itertools.product(*states):
+            yield (numbers, found)
+
+
+def settles(house, stand):
+    """For each hand that has settled its number and its value."""
+    lines = [hand[1][n] for hand, n in zip(house[1], stand[0])]
+    return [(k, line[1]) for k, line in enumerate(lines) if line[0] == "settle"]
+
+
+def values(house, stand):
+    return {value for k, value in settles(house, stand)}
+
+
+def movers(house, stand):
+    ended = dict(settles(house, stand))
+    return [k for k in range(len(house[1])) if k not in ended]
+
+
+def after(house, stand, hand):
+    lines, states = list(stand[0]), list(stand[1])
+    line = house[1][hand][1][lines[hand]]
+    if line[0] == "do":
+        kind, b, d, goals = line
+        states[b], told = house[0][b][0][states[b]][d]
+        lines[hand] = goals[told]
+    return (tuple(lines), tuple(states))
+
+
+def after_all(house, stand, turns):
+    for hand in turns:
+        stand = after(house, stand, hand)
+    return stand
+
+
+def first_stand(house, inputs):
+    return (tuple(begins[v] for (begins, lines), v in zip(house[1], inputs)), tuple(state for t, state in house[0]))
+
+
+def all_inputs(house):
+    return list(itertools.product((0, 1), repeat=len(house[1])))
+
+
+def all_stands(house, enough=2000):
+    """The stands in the order of [13], or None where there are more than enough."""
+    told = []
+    for inputs in all_inputs(house):
+        if first_stand(house, inputs) not in told:
+            told.append(first_stand(house, inputs))
+    known = set(told)
+    for stand in told:
+        for hand in movers(house, stand):
+            there = after(house, stand, hand)
+            if there not in known:
+                known.add(there)
+                told.append(there)
+        if len(told) > enough:
+            return None
+    return told
+
+
+def led_from(house, stand):
+    """All stands to which turns lead from one, itself among them."""
+    known, waiting = {stand}, [stand]
+    while waiting:
+        here = waiting.pop()
+        for hand in movers(house, here):
+            there = after(house, here, hand)
+            if there not in known:
+                known.add(there)
+                waiting.append(there)
+    return known
+
+
+def kinds_within(value):
+    """All kinds of things within tuples."""
+    if value.__class__ is tuple:
+        return {tuple}.union(*[kinds_within(part) for part in value])
+    return {value.__class__}
