@@ -35,6 +35,25 @@ ALWAYS_NOUGHT = ((), (((0, 0), (("settle", 0),)),) * 2)
 WAITING = (((PLAIN, 0),), (((0, 0), (("do", 0, 0, (0, 1)), ("settle", 0))),) * 2)
 
 
+def chain(many):
+    """A house of that many stands for one hand's deeds: the other has settled."""
+    lines = tuple(("do", 0, 0, (n + 1,)) for n in range(many - 1)) + (("settle", 0),)
+    return (((ONE, 0),), (((0, 0), (("settle", 0),)), ((0, 0), lines)))
+
+
+def wide(many):
+    """A house in which three hands count on by themselves: that many times itself, thrice."""
+    table = tuple((((s + 1) % many, 0),) for s in range(many))
+    return (((table, 0),) * 3, tuple(((0, 0), (("do", k, 0, (0,)),)) for k in range(3)))
+
+
+def spread(many):
+    """A house in which each of three hands does deeds on its own board, fewer than many: so that many stands, thrice
+    by itself, and far more runs."""
+    lines = [tuple(("do", k, 0, (n + 1,)) for n in range(many - 1)) + (("settle", 0),) for k in range(3)]
+    return (((ONE, 0),) * 3, tuple(((0, 0), own) for own in lines))
+
+
 def one_of(source, many):
     return source.randrange(many)
 
@@ -98,6 +117,43 @@ def house_of_words(source):
         return house
     return (house[0], tuple((begins, tuple(("settle", kind - 2) if line[0] == "settle" else line for line in lines))
                             for begins, lines in house[1]))
+
+
+def shuffled(source, hand):
+    """The hand with its lines in another order, and perhaps some more to which nothing leads."""
+    begins, lines = hand
+    lines = lines + tuple(("settle", one_of(source, 2)) for k in range(one_of(source, 3)))
+    order = list(range(len(lines)))
+    source.shuffle(order)
+    place = {old: new for new, old in enumerate(order)}
+    told = [line if line[0] == "settle" else line[:3] + (tuple(place[goal] for goal in line[3]),) for line in lines]
+    return (tuple(place[n] for n in begins), tuple(told[old] for old in order))
+
+
+def bent(source, hand):
+    """The hand with one of its lines' goals or values another one, or one of its begins."""
+    begins, lines = hand
+    at = one_of(source, len(lines))
+    line = lines[at]
+    if one_of(source, 5) == 0:
+        return ((one_of(source, len(lines)), begins[1]), lines)
+    if line[0] == "settle":
+        line = ("settle", one_of(source, 2))
+    else:
+        goals = list(line[3])
+        goals[one_of(source, len(goals))] = one_of(source, len(lines))
+        line = line[:3] + (tuple(goals),)
+    return (begins, lines[:at] + (line,) + lines[at + 1:])
+
+
+def near_good(source):
+    """A good house with its lines in any order, now and then with a line bent in one of its hands."""
+    boards, hands = source.choice((GOOD_OF_TWO, GOOD_OF_THREE, GOOD_BY_ONCE, GOOD_BY_ONCE))
+    hands = [shuffled(source, hand) for hand in hands]
+    for k in range(one_of(source, 3)):
+        own = one_of(source, len(hands))
+        hands[own] = bent(source, hands[own])
+    return (boards, tuple(hands))
 
 
 def some_houses(many, seed, make=any_house):
@@ -189,3 +245,73 @@ def kinds_within(value):
     if value.__class__ is tuple:
         return {tuple}.union(*[kinds_within(part) for part in value])
     return {value.__class__}
+
+
+def deeds_left(house, stands):
+    """For each stand the most deeds that can still be done, or None where there is a round: level by level the stands
+    from which so many deeds can be done."""
+    nexts = {stand: [after(house, stand, hand) for hand in movers(house, stand)] for stand in stands}
+    level, left = set(stands), {}
+    for many in range(len(stands) + 1):
+        for stand in level:
+            left[stand] = many
+        level = {stand for stand in stands if any(there in level for there in nexts[stand])}
+    return None if level else left
+
+
+def least_turns(house, stand, is_goal, fewest=0, most=None):
+    """The least of the fewest turns of free hands to a goal, or None: level by level the least turns to each stand."""
+    most = len(led_from(house, stand)) if most is None else most
+    level = {stand: ()}
+    for many in range(most + 1):
+        found = [turns for there, turns in level.items() if is_goal(there)]
+        if found and many >= fewest:
+            return min(found)
+        longer = {}
+        for here, turns in level.items():
+            for hand in movers(house, here):
+                there = after(house, here, hand)
+                longer[there] = min(longer.get(there, turns + (hand,)), turns + (hand,))
+        level = longer
+    return None
+
+
+def least_round(house, stands):
+    for stand in stands:
+        turns = least_turns(house, stand, lambda there: there == stand, 1)
+        if turns is not None:
+            return (stand, turns)
+    return None
+
+
+def wrong_turns(house, is_wrong):
+    """How many turns there are at least, by any inputs, to a stand in which something wrong is settled on, or None."""
+    told = [least_turns(house, first_stand(house, inputs), lambda there: is_wrong(inputs, values(house, there)))
+            for inputs in all_inputs(house)]
+    return min([len(turns) for turns in told if turns is not None], default=None)
+
+
+def unlike(inputs, found):
+    return found == {0, 1}
+
+
+def strange(inputs, found):
+    return not found <= set(inputs)
+
+
+def word_of(house, stands):
+    if wrong_turns(house, unlike) is not None:
+        return "unlike"
+    if wrong_turns(house, strange) is not None:
+        return "strange"
+    return "round" if deeds_left(house, stands) is None else "good"
+
+
+def small_houses(many, seed, make, most):
+    """Houses of at most so many stands, each with its stands."""
+    told = []
+    for house in some_houses(many, seed, make):
+        stands = all_stands(house, most)
+        if stands is not None and len(stands) <= most:
+            told.append((house, stands))
+    return told

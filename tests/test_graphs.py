@@ -6,20 +6,8 @@ from pactboards.errors import TooMany
 from pactboards.graphs import stands_of
 
 from samples import (
-    ALWAYS_NOUGHT, COUNT, EACH_ITS_OWN, GOOD_BY_ONCE, GOOD_OF_THREE, GOOD_OF_TWO, ONE, WAITING, all_stands,
-    house_of_words, kinds_within, some_houses)
-
-
-def chain(many):
-    """A house of that many stands for one hand's deeds: the other has settled."""
-    lines = tuple(("do", 0, 0, (n + 1,)) for n in range(many - 1)) + (("settle", 0),)
-    return (((ONE, 0),), (((0, 0), (("settle", 0),)), ((0, 0), lines)))
-
-
-def wide(many):
-    """A house in which three hands count on by themselves: that many times itself, thrice."""
-    table = tuple((((s + 1) % many, 0),) for s in range(many))
-    return (((table, 0),) * 3, tuple(((0, 0), (("do", k, 0, (0,)),)) for k in range(3)))
+    ALWAYS_NOUGHT, COUNT, EACH_ITS_OWN, GOOD_BY_ONCE, GOOD_OF_THREE, GOOD_OF_TWO, ONE, WAITING, all_stands, chain,
+    house_of_words, kinds_within, some_houses, wide)
 
 
 class Order(unittest.TestCase):
