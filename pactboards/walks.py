@@ -117,3 +117,37 @@ def leading_to(steps, goals):
         if wanted:
             mark_from(back, root, marks, True)
     return [mark is not None for mark in marks]
+
+
+def far_from(steps, goals):
+    # For each number how many turns there are at least to a goal, None where none lead there.
+    back = turned(steps)
+    far = [0 if wanted else None for wanted in goals]
+    waiting = [here for here, wanted in enumerate(goals) if wanted]
+    at = 0
+    while at < len(waiting):
+        for there in back[waiting[at]]:
+            if far[there] is None:
+                far[there] = far[waiting[at]] + 1
+                waiting.append(there)
+        at += 1
+    return far
+
+
+def nearing_way(steps, far, start):
+    # The least of the fewest turns to what is nought far, from a number from which turns lead there.
+    turns = []
+    here = start
+    while far[here] > 0:
+        step = [found for found in steps[here] if far[found[1]] == far[here] - 1][0]
+        turns.append(step[0])
+        here = step[1]
+    return tuple(turns)
+
+
+def passed(steps, start, turns):
+    # The numbers to which turns of free hands lead, from the start on.
+    numbers = [start]
+    for hand in turns:
+        numbers.append(dict(steps[numbers[-1]])[hand])
+    return numbers

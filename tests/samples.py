@@ -35,6 +35,37 @@ ALWAYS_NOUGHT = ((), (((0, 0), (("settle", 0),)),) * 2)
 WAITING = (((PLAIN, 0),), (((0, 0), (("do", 0, 0, (0, 1)), ("settle", 0))),) * 2)
 
 
+# As PLAIN, of three states, the last for nothing laid yet.
+PLAIN_OF_THREE = tuple(((s, s), (0, 0), (1, 0), (2, 0)) for s in range(3))
+
+
+def racer(own, other):
+    """A hand that lays its value, and settles on it where the other's is the same or missing; else it takes that one."""
+    return ((0, 1), (
+        ("do", own, 1, (2,)), ("do", own, 2, (3,)),
+        ("do", other, 0, (4, 1, 4)), ("do", other, 0, (0, 5, 5)), ("settle", 0), ("settle", 1)))
+
+
+# Safe, of plain boards, and each hand alone settles: so it is kept open.
+RACE_OF_TWO = (((PLAIN_OF_THREE, 2), (PLAIN_OF_THREE, 2)), (racer(0, 1), racer(1, 0)))
+# One more and one less, all in a ring of eleven; both are answered what was there: meek, not plain.
+RING = tuple((((s - 1) % 11, s), ((s + 1) % 11, s)) for s in range(11))
+
+
+def ring_goal(value, place):
+    """Three off the middle, 5, it is settled; else the hand goes on the way that is ahead."""
+    if abs(place - 5) >= 3:
+        return 2 if place < 5 else 3
+    return value if place == 5 else int(place > 5)
+
+
+RUNNER = ((0, 1), (
+    ("do", 0, 0, tuple(ring_goal(0, s - 1) for s in range(11))),
+    ("do", 0, 1, tuple(ring_goal(1, s + 1) for s in range(11))), ("settle", 0), ("settle", 1)))
+# Safe, of a meek board, and each hand alone settles: so it is kept open.
+RACE_OF_THREE = (((RING, 5),), (RUNNER,) * 3)
+
+
 def chain(many):
     """A house of that many stands for one hand's deeds: the other has settled."""
     lines = tuple(("do", 0, 0, (n + 1,)) for n in range(many - 1)) + (("settle", 0),)
@@ -62,6 +93,36 @@ def any_table(source, states=4, deeds=3, told=3):
     many = 1 + one_of(source, states)
     width = 1 + one_of(source, deeds)
     return tuple(tuple((one_of(source, many), one_of(source, told)) for d in range(width)) for s in range(many))
+
+
+def plain_table(source, states=3, deeds=3, told=3):
+    many = 1 + one_of(source, states)
+    columns = []
+    for d in range(1 + one_of(source, deeds)):
+        if one_of(source, 2):
+            columns.append([(s, one_of(source, told)) for s in range(many)])
+        else:
+            columns.append([(one_of(source, many), 0)] * many)
+    return tuple(zip(*columns))
+
+
+def is_meek_table(table):
+    """What [5] says, word by word."""
+    for row in table:
+        for one in range(len(row)):
+            for other in range(len(row)):
+                by_one, by_other = row[one][0], row[other][0]
+                both, turned = table[by_one][other][0], table[by_other][one][0]
+                if both != turned and both != by_other and turned != by_one:
+                    return False
+    return True
+
+
+def meek_table(source):
+    while True:
+        table = any_table(source)
+        if is_meek_table(table):
+            return table
 
 
 def deed_answers(table, deed):
@@ -147,8 +208,16 @@ def bent(source, hand):
 
 
 def near_good(source):
-    """A good house with its lines in any order, now and then with a line bent in one of its hands."""
-    boards, hands = source.choice((GOOD_OF_TWO, GOOD_OF_THREE, GOOD_BY_ONCE, GOOD_BY_ONCE))
+    return near(source, (GOOD_OF_TWO, GOOD_OF_THREE, GOOD_BY_ONCE, GOOD_BY_ONCE))
+
+
+def near_race(source):
+    return near(source, (RACE_OF_TWO, RACE_OF_THREE))
+
+
+def near(source, houses):
+    """One of the houses with its lines in any order, now and then with a line bent in one of its hands."""
+    boards, hands = source.choice(houses)
     hands = [shuffled(source, hand) for hand in hands]
     for k in range(one_of(source, 3)):
         own = one_of(source, len(hands))
@@ -240,6 +309,15 @@ def led_from(house, stand):
     return known
 
 
+def own_round(house, stand, hand):
+    """Whether a hand alone never settles: it comes to a stand again."""
+    known = []
+    while stand not in known and hand in movers(house, stand):
+        known.append(stand)
+        stand = after(house, stand, hand)
+    return stand in known
+
+
 def kinds_within(value):
     """All kinds of things within tuples."""
     if value.__class__ is tuple:
@@ -297,6 +375,16 @@ def unlike(inputs, found):
 
 def strange(inputs, found):
     return not found <= set(inputs)
+
+
+def is_unsafe(house):
+    """What [15] says, the other way round."""
+    for inputs in all_inputs(house):
+        for stand in led_from(house, first_stand(house, inputs)):
+            found = values(house, stand)
+            if unlike(inputs, found) or strange(inputs, found):
+                return True
+    return False
 
 
 def word_of(house, stands):
