@@ -126,9 +126,10 @@ def far_from(steps, goals):
     waiting = [here for here, wanted in enumerate(goals) if wanted]
     at = 0
     while at < len(waiting):
-        for there in back[waiting[at]]:
+        here = waiting[at]
+        for there in back[here]:
             if far[there] is None:
-                far[there] = far[waiting[at]] + 1
+                far[there] = far[here] + 1
                 waiting.append(there)
         at += 1
     return far
