@@ -29,6 +29,15 @@ def graph_from(house, firsts, most):
     return (stands, steps)
 
 
+def lines_come_to(house, stands):
+    # For each hand the truth of each of its lines.
+    told = [[False for line in hand[1]] for hand in house[1]]
+    for stand in stands:
+        for hand, line in enumerate(stand[0]):
+            told[hand][line] = True
+    return told
+
+
 def steps_from(house, stand, stands, numbers):
     # What is come to for the first time goes behind the stands and their numbers.
     steps = []

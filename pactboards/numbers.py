@@ -43,7 +43,10 @@ def first_round(steps):
 
 
 def deeds_at(house, board, most=500):
-    graph = graph_of(house, most)
+    return graph_deeds(house, graph_of(house, most), board)
+
+
+def graph_deeds(house, graph, board):
     order = falling_order(graph[1])
     if order is None:
         return None

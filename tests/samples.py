@@ -1,5 +1,6 @@
 """Houses for the tests, and what the document says of them, reckoned the slow way."""
 
+import functools
 import itertools
 import random
 
@@ -40,7 +41,7 @@ PLAIN_OF_THREE = tuple(((s, s), (0, 0), (1, 0), (2, 0)) for s in range(3))
 
 
 def racer(own, other):
-    """A hand that lays its value, and settles on it where the other's is the same or missing; else it takes that one."""
+    """A hand that lays its value, and settles on it where the other's is the same or missing; else it takes that."""
     return ((0, 1), (
         ("do", own, 1, (2,)), ("do", own, 2, (3,)),
         ("do", other, 0, (4, 1, 4)), ("do", other, 0, (0, 5, 5)), ("settle", 0), ("settle", 1)))
@@ -83,6 +84,21 @@ def spread(many):
     by itself, and far more runs."""
     lines = [tuple(("do", k, 0, (n + 1,)) for n in range(many - 1)) + (("settle", 0),) for k in range(3)]
     return (((ONE, 0),) * 3, tuple(((0, 0), own) for own in lines))
+
+
+def slow_good(ahead, behind):
+    """A good house of 14 + 4 * ahead + 3 * behind stands: hand 0 does so many deeds on a further board ahead of its put
+    where it begins with 0, and so many behind that where the answer is 1."""
+    lines = list(PUTS[1])
+    at, last = 0, 2
+    for n in range(ahead):
+        lines.append(("do", 1, 0, (at,)))
+        at = len(lines) - 1
+    for n in range(behind):
+        lines.append(("do", 1, 0, (last,)))
+        last = len(lines) - 1
+    lines[0] = ("do", 0, 0, (2, last, 3))
+    return (GOOD_OF_TWO[0] + ((ONE, 0),), (((at, 1), tuple(lines)), PUTS))
 
 
 def one_of(source, many):
@@ -225,6 +241,45 @@ def near(source, houses):
     return (boards, tuple(hands))
 
 
+def boards_moved(source, house):
+    """The house with its boards in another order."""
+    order = list(range(len(house[0])))
+    source.shuffle(order)
+    hands = tuple((begins, tuple(line if line[0] == "settle" else ("do", order.index(line[1])) + line[2:]
+                                 for line in lines)) for begins, lines in house[1])
+    return (tuple(house[0][old] for old in order), hands)
+
+
+def with_detours(source, hand, first, tables, many):
+    """The hand with deeds on further boards, from the first on, ahead of some of its lines: by their answers it goes
+    on to that line at once, or by other such deeds."""
+    begins, lines = hand
+    ways = {}
+    lines = list(lines)
+    for k in range(many):
+        goal = one_of(source, len(hand[1]))
+        ways.setdefault(goal, [goal])
+        b = one_of(source, len(tables))
+        d = one_of(source, len(tables[b][0]))
+        told = tuple(source.choice(ways[goal]) for a in range(deed_answers(tables[b], d)))
+        lines.append(("do", first + b, d, told))
+        ways[goal].append(len(lines) - 1)
+    for n in range(len(hand[1])):
+        if lines[n][0] == "do":
+            lines[n] = lines[n][:3] + (tuple(source.choice(ways.get(goal, [goal])) for goal in lines[n][3]),)
+    return (tuple(ways.get(n, [n])[-1] for n in begins), tuple(lines))
+
+
+def good_house(source):
+    """A good house with deeds on further boards, perhaps none, all boards and lines in any order."""
+    boards, hands = source.choice((GOOD_OF_TWO, GOOD_OF_THREE, GOOD_BY_ONCE))
+    tables = [any_table(source) for k in range(1 + one_of(source, 2))]
+    many = one_of(source, 5)
+    hands = [shuffled(source, with_detours(source, hand, len(boards), tables, many)) for hand in hands]
+    boards += tuple((table, one_of(source, len(table))) for table in tables)
+    return boards_moved(source, (boards, tuple(hands)))
+
+
 def some_houses(many, seed, make=any_house):
     source = random.Random(seed)
     return [make(source) for k in range(many)]
@@ -335,6 +390,18 @@ def deeds_left(house, stands):
             left[stand] = many
         level = {stand for stand in stands if any(there in level for there in nexts[stand])}
     return None if level else left
+
+
+def most_there(house, hand, board):
+    """The most deeds of a hand on a board in any run by inputs, where there is no round."""
+    @functools.lru_cache(None)
+    def left(stand):
+        told = [0]
+        for mover in movers(house, stand):
+            line = house[1][mover][1][stand[0][mover]]
+            told.append(left(after(house, stand, mover)) + (mover == hand and line[1] == board))
+        return max(told)
+    return max(left(first_stand(house, inputs)) for inputs in all_inputs(house))
 
 
 def least_turns(house, stand, is_goal, fewest=0, most=None):

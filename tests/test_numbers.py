@@ -1,15 +1,14 @@
 """Promise [14]: numbers that fall, the first round, the deeds that are done on a board."""
 
-import functools
 import unittest
 
 from pactboards.errors import TooMany
 from pactboards.numbers import deeds_at, numbers_of, round_of
 
 from samples import (
-    ALWAYS_NOUGHT, COUNT, GOOD_BY_ONCE, GOOD_OF_THREE, GOOD_OF_TWO, ONE, PLAIN, WAITING, after, all_inputs, all_stands,
-    any_house, chain, deeds_left, first_stand, house_of_words, kinds_within, least_round, led_from, movers,
-    near_good, onward_house, small_houses, spread)
+    ALWAYS_NOUGHT, COUNT, GOOD_BY_ONCE, GOOD_OF_THREE, GOOD_OF_TWO, ONE, PLAIN, WAITING, all_stands, any_house, chain,
+    deeds_left, house_of_words, kinds_within, least_round, led_from, most_there, near_good, onward_house, small_houses,
+    spread)
 
 ENDED = ((0, 0), (("settle", 0),))
 # Hand 0 does two deeds on board 0, then one on 1 and one on 2; hand 1 two on board 1, or one there and three on 0.
@@ -24,18 +23,6 @@ def ring(many, ahead=0):
     """Hand 0 goes round so many lines, behind some ahead of them; hand 1 has settled."""
     lines = tuple(("do", 0, 0, (n + 1,)) for n in range(ahead + many - 1)) + (("do", 0, 0, (ahead,)),)
     return (((ONE, 0),), (((0, 0), lines), ENDED))
-
-
-def most_there(house, hand, board):
-    """The most deeds of a hand on a board in any run by inputs."""
-    @functools.lru_cache(None)
-    def left(stand):
-        told = [0]
-        for mover in movers(house, stand):
-            line = house[1][mover][1][stand[0][mover]]
-            told.append(left(after(house, stand, mover)) + (mover == hand and line[1] == board))
-        return max(told)
-    return max(left(first_stand(house, inputs)) for inputs in all_inputs(house))
 
 
 class Refusals(unittest.TestCase):

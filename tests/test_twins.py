@@ -8,9 +8,8 @@ from pactboards.alone import alone
 from pactboards.twins import same_to, twins
 
 from samples import (
-    GOOD_BY_ONCE, GOOD_OF_THREE, GOOD_OF_TWO, PLAIN, RACE_OF_THREE, RACE_OF_TWO, SWAP, after_all, any_house,
-    any_table, every_stand, is_meek_table, kinds_within, meek_table, movers, near_good, one_of, plain_table,
-    some_houses)
+    GOOD_BY_ONCE, GOOD_OF_THREE, GOOD_OF_TWO, PLAIN, RACE_OF_THREE, RACE_OF_TWO, SWAP, after_all, any_house, any_table,
+    every_stand, is_meek_table, kinds_within, meek_table, movers, near_good, one_of, plain_table)
 
 
 def told_apart(one, other, hand):
@@ -108,7 +107,8 @@ class Twins(unittest.TestCase):
         # Nothing changes but the hands' own lines.
         house = ((((((0, 0),),), 0),), (((0, 0), (("do", 0, 0, (0,)),)),) * 3)
         told = twins(house, ((0, 0, 0), (0,)), 2, 1)
-        self.assertEqual(told, [(one, other, k) for one in ((2,), (2, 1)) for other in ((1,), (1, 2)) for k in range(3)])
+        self.assertEqual(told, [(one, other, k) for one in ((2,), (2, 1)) for other in ((1,), (1, 2))
+                                for k in range(3)])
         self.assertEqual(len(told), 12)
 
     def test_at_a_meek_board_that_is_not_plain(self):
